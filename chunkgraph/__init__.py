@@ -1,1 +1,1 @@
-"""The graph of chunks: what the chunks of a document need, and which way leads from one to another."""
+"""The graph of chunks: what the chunks of a document need, the ways between them, what never stands in a file."""

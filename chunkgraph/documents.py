@@ -1,19 +1,24 @@
 """The calls on one object, which holds a document, and their answers as one list of whole numbers."""
 
-from chunkgraph.graph import Document, is_unknown, is_wrong, needs_at_all, needs_under, places_of_uses
+from chunkgraph.graph import Document, is_live, is_unknown, is_wrong, needs_at_all, needs_under, places_of_uses
+from chunkgraph.order import copies_of, depths, has_circle, order_of_need
 from chunkgraph.parts import CODE
 from chunkgraph.reader import Reader
-from chunkgraph.refusals import NoNode, NoNodeKind, NoVariant, NoWay, Refusal, TextTooLong
-from chunkgraph.ways import least_way, reached_from, users_of
+from chunkgraph.refusals import HasCircle, NoBlock, NoChunk, NoCodeLine, NoLine, NoNode, NoNodeKind, NoPart
+from chunkgraph.refusals import NoVariant, NoWay, Refusal, TextTooLong, TooManyCopies, TooManySettings
+from chunkgraph.settled import dead_lines, unused_chunks
+from chunkgraph.ways import first_circle, least_way, reached_from, users_of
 from chunkgraph.words import variant_of
 
 MOST_TEXT_BYTES = 20000
+MOST_COPIES = 1000000000000000000
+MOST_SETTLED_SETTINGS = 8
 
 
 # The object that the calls are on; it outlives the documents that are read one after the other.
 class Holder:
     def __init__(self):
-        self.document = Document([])
+        self.document = Document([], 0)
 
 
 # Where in the list of calls one is: the list belongs to the caller, so it is only read.
@@ -57,6 +62,30 @@ def told_variant(text):
     return variant
 
 
+# The code line that a block's and a line's number tell.
+def told_code_line(document, block, number):
+    if not 0 <= block < document.block_count:
+        raise NoBlock()
+    part = document.part_at(block)
+    if part is None:
+        raise NoPart()
+    if not 0 <= number < len(part.lines):
+        raise NoLine()
+    if part.lines[number].kind != CODE:
+        raise NoCodeLine()
+    return part.lines[number]
+
+
+def refuse_circle(document):
+    if has_circle(needs_at_all(document)):
+        raise HasCircle()
+
+
+def refuse_unsettled(document):
+    if len(document.settings) > MOST_SETTLED_SETTINGS:
+        raise TooManySettings()
+
+
 def text_answer(text):
     return [len(text)] + list(text)
 
@@ -93,7 +122,7 @@ def read(holder, numbers, rows):
     fault = reader.take_text(text)
     if fault is not None:
         return fault
-    holder.document = Document(reader.parts)
+    holder.document = Document(reader.parts, reader.block_count)
     return [0, reader.block_count]
 
 
@@ -148,6 +177,53 @@ def way(holder, numbers, rows):
     return names_answer(document, found)
 
 
+def circle(holder, numbers, rows):
+    document = holder.document
+    return names_answer(document, first_circle(needs_at_all(document)))
+
+
+def order(holder, numbers, rows):
+    document = holder.document
+    taken = order_of_need(needs_at_all(document))
+    return marked_names_answer(document, taken) + [len(document.nodes) - len(taken)]
+
+
+def copies(holder, numbers, rows):
+    document = holder.document
+    node = told_node(document, numbers[0], rows[0])
+    chunk = document.chunk_number(rows[1])
+    if chunk is None:
+        raise NoChunk()
+    variant = told_variant(rows[2])
+    refuse_circle(document)
+    count = copies_of(document, chunk, variant)[node]
+    if count > MOST_COPIES:
+        raise TooManyCopies()
+    return [count]
+
+
+def depth(holder, numbers, rows):
+    document = holder.document
+    node = told_node(document, numbers[0], rows[0])
+    refuse_circle(document)
+    return [depths(needs_at_all(document))[node]]
+
+
+def live(holder, numbers, rows):
+    line = told_code_line(holder.document, numbers[0], numbers[1])
+    return [1 if is_live(line, told_variant(rows[0])) else 0]
+
+
+def dead(holder, numbers, rows):
+    refuse_unsettled(holder.document)
+    return places_answer(dead_lines(holder.document))
+
+
+def unused(holder, numbers, rows):
+    refuse_unsettled(holder.document)
+    return names_answer(holder.document, unused_chunks(holder.document))
+
+
 def size(holder, numbers, rows):
     document = holder.document
     code_lines = 0
@@ -166,6 +242,13 @@ CALLS = {
     5: (users, 0, 1),
     6: (reach, 1, 2),
     7: (way, 1, 2),
+    8: (circle, 0, 0),
+    9: (order, 0, 0),
+    10: (copies, 1, 3),
+    11: (depth, 1, 1),
+    12: (live, 2, 1),
+    13: (dead, 0, 0),
+    14: (unused, 0, 0),
     15: (size, 0, 0),
 }
 

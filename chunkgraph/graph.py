@@ -13,11 +13,12 @@ class Node:
         self.lines = []
 
 
-# A document's parts and what follows from them.
+# A document's parts and what follows from them; of prose it is only told how many blocks there are in all.
 # node_numbers tells a node's place in nodes by the pair of its file and its name.
 class Document:
-    def __init__(self, parts):
+    def __init__(self, parts, block_count):
         self.parts = parts
+        self.block_count = block_count
         self.settings = settings_of(parts)
         self.nodes = nodes_of(parts)
         self.node_numbers = {}
@@ -27,6 +28,17 @@ class Document:
     # The number of a chunk's node, or None if no chunk has this name.
     def chunk_number(self, name):
         return self.node_numbers.get((0, name))
+
+    # The number of the node that a part is of.
+    def part_number(self, part):
+        return self.node_numbers[(part.file, part.name)]
+
+    # The part that is a block, or None if the block is prose.
+    def part_at(self, block):
+        for part in self.parts:
+            if part.block == block:
+                return part
+        return None
 
 
 def settings_of(parts):
@@ -95,22 +107,22 @@ def live_lines(node, variant):
     return [line for line in node.lines if is_live(line, variant)]
 
 
-# The numbers of the chunks that lines have a use of, in their order.
+# The numbers of the chunks that lines use: one for each known use, in the order of the uses.
 def chunks_used(document, lines):
-    found = {}
+    found = []
     for line in lines:
         for use in uses_of(line):
             number = document.chunk_number(use.text)
             if number is not None:
-                found[number] = True
-    return sorted(found)
+                found.append(number)
+    return found
 
 
-# For each node the numbers of the chunks that it needs at all.
+# For each node the numbers of the chunks that it needs at all, in their order.
 def needs_at_all(document):
-    return [chunks_used(document, node.lines) for node in document.nodes]
+    return [sorted(set(chunks_used(document, node.lines))) for node in document.nodes]
 
 
-# For each node the numbers of the chunks that it needs under a variant.
+# For each node the numbers of the chunks that it needs under a variant, in their order.
 def needs_under(document, variant):
-    return [chunks_used(document, live_lines(node, variant)) for node in document.nodes]
+    return [sorted(set(chunks_used(document, live_lines(node, variant)))) for node in document.nodes]

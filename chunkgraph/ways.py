@@ -54,3 +54,12 @@ def nearest(numbers, steps):
         if steps[number] < steps[best]:
             best = number
     return best
+
+
+# The least circle of the first node that has one, or an empty list if none has.
+def first_circle(needs):
+    for number in range(len(needs)):
+        found = least_way(needs, number, number)
+        if len(found) > 0:
+            return found
+    return []

@@ -57,8 +57,44 @@ def way(file, origin, target):
     return [7, file] + row(origin) + row(target)
 
 
+def circle():
+    return [8]
+
+
+def order():
+    return [9]
+
+
+def copies(file, name, chunk, variant=""):
+    return [10, file] + row(name) + row(chunk) + row(variant)
+
+
+def depth(file, name):
+    return [11, file] + row(name)
+
+
+def live(block, line, variant=""):
+    return [12, block, line] + row(variant)
+
+
+def dead():
+    return [13]
+
+
+def unused():
+    return [14]
+
+
 def size():
     return [15]
+
+
+def chunks(**used):
+    """The lines of parts of these names, in their order, that use what is told."""
+    lines = []
+    for name, uses in used.items():
+        lines += ["@chunk " + name, "".join("@{" + use + "}" for use in uses), "@end"]
+    return lines
 
 
 def texts(*names):
@@ -67,7 +103,7 @@ def texts(*names):
 
 
 def marked(*pairs):
-    """How users answers: each pair is 0 or 1 and a name."""
+    """How users answers, and order ahead of how many are left: each pair is 0 or 1 and a name."""
     return [len(pairs)] + [number for file, name in pairs for number in [file] + row(name)]
 
 

@@ -4,12 +4,24 @@ import unittest
 
 from chunkgraph.documents import answers
 from tests.support import (
-    needs, nodes, reach, read, read_text, run, size, taken_apart, texts, unknown, users, way, wrong)
+    circle, copies, dead, depth, live, marked, needs, node_rows, nodes, order, reach, read, read_text, run, size, taken_apart,
+    texts, unknown, unused, users, way, wrong)
 
 DOCUMENT = read("@file f", "@{a}", "@end", "@chunk a(x)", "@if p", "@{b}@<x>", "@fi", "@end", "@chunk b", "@end")
 
-MANY = [DOCUMENT, nodes(), unknown(), wrong(), needs(1, "f"), users("a"), reach(1, "f", "p"), way(1, "f", "b"), size(),
-        needs(7, "f"), users("no"), reach(0, "a", " "), way(0, "b", "a"), read("@"), nodes()]
+GOOD = [DOCUMENT, nodes(), unknown(), wrong(), needs(1, "f"), users("a"), reach(1, "f", "p"), way(1, "f", "b"), circle(), order(),
+        copies(1, "f", "b", "p"), depth(1, "f"), live(1, 1, ""), dead(), unused(), size()]
+
+GOOD_ANSWERS = [[0, 3], node_rows((1, "f", 1, 0), (0, "a", 1, 1), (0, "b", 1, 0)), [0], [1, 0, 0, 0], texts("a"), marked((1, "f")),
+                texts("a", "b"), texts("f", "a", "b"), [0], marked((0, "b"), (0, "a"), (1, "f")) + [0], [1], [2], [0], [0], [0],
+                [3, 2, 1, 2]]
+
+REFUSED = [read_text("\n" * 20001), needs(7, "f"), users("no"), reach(0, "a", " "), way(0, "b", "a"), copies(1, "f", "f", "p"),
+           depth(0, "f"), live(1, 2, "")]
+
+REFUSALS = [[-6], [-2], [-3], [-1], [-4], [-4], [-3], [-5]]
+
+MANY = GOOD + REFUSED[1:] + [read("@"), nodes()]
 
 
 def joined(calls):
@@ -31,33 +43,55 @@ class Lists(unittest.TestCase):
         calls = [0, len(text)] + text + [7, 0, 1, 97, 1, 97, 6, 0, 1, 97, 0, 4, 2, 0, 15]
         self.assertEqual(answers(calls), [2, 0, 1, 5, 2, 1, 97, 1, 97, 3, 1, 1, 97, 1, -2, 4, 1, 1, 0, 1])
 
-    def test_several_calls(self):
-        self.assertEqual(run(*MANY[:13]), [
-            [0, 3], [3, 1, 1, 102, 1, 0, 0, 1, 97, 1, 1, 0, 1, 98, 1, 0], [0], [1, 0, 0, 0], texts("a"), [1, 1, 1, 102],
-            texts("a", "b"), texts("f", "a", "b"), [3, 2, 1, 2], [-2], [-3], [-1], [-4]])
+    def test_the_numbers_of_calls_8_to_14(self):
+        self.assertEqual(answers([8, 9, 13, 14]), [1, 0, 2, 0, 0, 1, 0, 1, 0])
+        self.assertEqual(answers([10, 1, 1, 102, 1, 97, 1, 112, 11, 2, 1, 97, 12, -1, 0, 0, 12, 0, -1, 1, 112]),
+                         [1, -3, 1, -2, 1, -2, 1, -2])
+        text = list(b"@chunk a\n@{b}@{b}\n@end\n@chunk b\n@end\n")
+        calls = [0, len(text)] + text + [10, 0, 1, 97, 1, 98, 0, 11, 0, 1, 97, 12, 0, 0, 1, 112, 13, 14, 9, 8]
+        self.assertEqual(answers(calls), [2, 0, 2, 1, 2, 1, 1, 1, 1, 3, 1, 0, 0, 5, 2, 1, 97, 1, 98,
+                                          8, 2, 0, 1, 98, 0, 1, 97, 0, 1, 0])
 
-    def test_40_calls(self):
-        calls = [DOCUMENT] + [size(), nodes(), way(1, "f", "b")] * 13
-        given = run(*calls)
-        self.assertEqual(len(given), 40)
-        self.assertEqual(given, [[0, 3]] + [[3, 2, 1, 2], run(DOCUMENT, nodes())[1], texts("f", "a", "b")] * 13)
+    def test_all_sixteen_kinds(self):
+        self.assertEqual([call[0] for call in GOOD], list(range(16)))
+        self.assertEqual(run(*GOOD), GOOD_ANSWERS)
+
+    def test_in_whatever_order(self):
+        for step in (3, 5, 7, 11):
+            places = [0] + [number * step % 16 for number in range(1, 16)]
+            self.assertEqual(run(*[GOOD[place] for place in places]), [GOOD_ANSWERS[place] for place in places])
+
+    def test_40_calls_and_refusals_among_them(self):
+        calls = GOOD + REFUSED + GOOD
+        self.assertEqual(len(calls), 40)
+        self.assertEqual(run(*calls), GOOD_ANSWERS + REFUSALS + GOOD_ANSWERS)
+
+    def test_40_times_the_same_call(self):
+        for call, answer in zip(GOOD[1:], GOOD_ANSWERS[1:]):
+            self.assertEqual(run(DOCUMENT, *[call] * 39), [[0, 3]] + [answer] * 39)
 
     def test_40_reads(self):
         calls = [read_text("x\n" * number) for number in range(39)] + [read_text("x")]
         self.assertEqual(run(*calls), [[0, number] for number in range(39)] + [[1, 1]])
 
     def test_each_refused_call_leaves_everything_as_it_was(self):
-        states = [nodes(), unknown(), wrong(), needs(0, "a"), users("b"), reach(1, "f", ""), way(0, "a", "b"), size()]
-        before = run(DOCUMENT, *states)[1:]
-        for refused in [read_text("\n" * 20001), read("@"), needs(2, "f"), users(""), reach(1, "f", "-"), way(0, "b", "b")]:
-            self.assertEqual(run(DOCUMENT, refused, *states)[2:], before)
+        for refused in REFUSED + [read("@"), read("@chunk a"), copies(1, "f", "b", " "), copies(3, "f", "b", ""), depth(3, "f"),
+                                  live(3, 0, ""), live(1, 9, ""), live(1, 1, "P")]:
+            self.assertEqual(run(DOCUMENT, refused, *GOOD[1:])[2:], GOOD_ANSWERS[1:])
+
+    def test_documents_that_refuse_what_hangs_on_them(self):
+        round_there = read("@chunk a", "@{a}", "@end")
+        many_settings = read("@chunk a", *["@if s%d\n@fi" % number for number in range(9)], "@end")
+        self.assertEqual(run(round_there, copies(0, "a", "a", ""), depth(0, "a"), many_settings, dead(), unused(), depth(0, "a")),
+                         [[0, 1], [-9], [-9], [0, 1], [-7], [-7], [0]])
 
     def test_asking_changes_nothing(self):
-        self.assertEqual(run(*MANY, *MANY[1:13])[15:], run(*MANY)[1:13])
+        self.assertEqual(run(*GOOD, *GOOD[1:])[16:], run(*GOOD)[1:])
 
     def test_the_longest_rows(self):
         for call in [read_text("x" * 24000), needs(0, "x" * 24000), users("x" * 24000), reach(1, "x" * 24000, ""),
-                     way(1, "", "x" * 24000)]:
+                     way(1, "", "x" * 24000), copies(1, "", "x" * 24000), copies(1, "", "", "x" * 24000), depth(0, "x" * 24000),
+                     live(0, 0, "x " * 12000)]:
             self.assertEqual(len(run(call)[0]), 1)
 
 
@@ -84,7 +118,8 @@ class Handing(unittest.TestCase):
 
     def test_nothing_is_kept_from_one_list_to_the_next(self):
         answers(joined(MANY))
-        self.assertEqual(answers(nodes() + size()), [1, 0, 4, 0, 0, 0, 0])
+        self.assertEqual(run(*GOOD[1:]),
+                         [[0], [0], [0], [-3], [-3], [-3], [-3], [0], [0, 0], [-3], [-3], [-2], [0], [0], [0, 0, 0, 0]])
 
     def test_the_answers_are_a_new_list_of_whole_numbers(self):
         calls = joined(MANY)

@@ -1,11 +1,15 @@
-"""The example of the document, as far as the calls go."""
+"""The example of the document, whole."""
 
-from tests.support import CallsTest, needs, node_rows, nodes, reach, read, size, texts, unknown, users, marked, way, wrong
+from tests.support import (
+    CallsTest, circle, copies, dead, depth, live, marked, needs, node_rows, nodes, order, reach, read, size, texts, unknown,
+    unused, users, way, wrong)
 
-EXAMPLE = read("@file main", "@{greet(you)}", "@if loud", "@{shout}", "@else", "@{nowhere}", "@fi", "@end",
-               "@chunk greet(x)", "Hello, @<x>!", "@end",
-               "@chunk shout", "@if loud", "@{greet}@{greet(A)}@{greet(B)}", "@else", "quiet", "@fi", "@end",
-               "@chunk lonely", "@{lonely}", "@end")
+LINES = ["@file main", "@{greet(you)}", "@if loud", "@{shout}", "@else", "@{nowhere}", "@fi", "@end",
+         "@chunk greet(x)", "Hello, @<x>!", "@end",
+         "@chunk shout", "@if loud", "@{greet}@{greet(A)}@{greet(B)}", "@else", "quiet", "@fi", "@end",
+         "@chunk lonely", "@{lonely}", "@end"]
+
+EXAMPLE = read(*LINES)
 
 
 class Example(CallsTest):
@@ -29,6 +33,26 @@ class Example(CallsTest):
     def test_way(self):
         self.gives([EXAMPLE, way(1, "main", "greet"), way(0, "lonely", "lonely"), way(0, "greet", "shout")],
                    [texts("main", "greet"), texts("lonely", "lonely"), [-4]])
+
+    def test_circle(self):
+        self.gives([EXAMPLE, circle()], [texts("lonely", "lonely")])
+
+    def test_order(self):
+        self.gives([EXAMPLE, order()], [marked((0, "greet"), (0, "shout"), (1, "main")) + [1]])
+
+    def test_copies_and_depth(self):
+        self.gives([EXAMPLE, copies(1, "main", "greet", ""), copies(1, "main", "greet", "loud"), depth(1, "main")], [[-9]] * 3)
+
+    def test_copies_and_depth_without_lonely(self):
+        self.gives([read(*LINES[:-3]), copies(1, "main", "greet", ""), copies(1, "main", "greet", "loud"), depth(1, "main")],
+                   [[0, 3], [1], [4], [2]])
+
+    def test_live(self):
+        self.gives([EXAMPLE, live(0, 0, ""), live(0, 2, "loud"), live(0, 4, "loud"), live(2, 3, ""), live(2, 0, ""), live(4, 0, "")],
+                   [[1], [1], [0], [1], [-5], [-2]])
+
+    def test_dead_and_unused(self):
+        self.gives([EXAMPLE, dead(), unused()], [[2, 2, 3, 3, 0], texts("lonely")])
 
     def test_size(self):
         self.gives([EXAMPLE, size()], [[4, 7, 1, 7]])

@@ -141,6 +141,21 @@ class Syntax(unittest.TestCase):
             if any(isinstance(sign, (ast.Is, ast.IsNot)) for sign in node.ops):
                 self.assertIn(repr(node.comparators[0].value), ("None", "True", "False"), (name, node.lineno))
 
+    def test_keywords_are_those_of_pythons_own_functions(self):
+        allowed = {"sorted": ("key", "reverse"), "min": ("key", "default"), "max": ("key", "default"), "sum": ("start",),
+                   "enumerate": ("start",), "zip": ("strict",)}
+        for name, node in walked(ast.Call):
+            for keyword in node.keywords:
+                self.assertIn(keyword.arg, allowed.get(getattr(node.func, "id", ""), ()), (name, node.lineno))
+
+    def test_no_powers(self):
+        self.assertFalse(walked(ast.Pow))
+
+    def test_errors_are_taken_by_their_own_names(self):
+        own = [node.name for name, node in walked(ast.ClassDef)]
+        for name, node in walked(ast.ExceptHandler):
+            self.assertIn(getattr(node.type, "id", None), own, (name, node.lineno))
+
     def test_texts_have_no_percent(self):
         for name, node in walked(ast.Constant):
             self.assertIn(type(node.value), (int, str, bool, type(None)), (name, node.lineno))

@@ -171,3 +171,9 @@ class Size(CallsTest):
 
     def test_a_node_of_several_parts_counts_once(self):
         self.gives([read("@chunk a", "1", "@end", "@chunk a", "2", "@end", "@file a", "3", "@end"), size()], [[2, 0, 0, 3]])
+
+    def test_all_together(self):
+        document = read("words", "@file f", "@if p", "@{a}@{a}@{x}", "@else", "", "@fi", "@end",
+                        "@chunk a", "@if q", "@if p", "t@{b(1)}", "@fi", "@fi", "@end", "@file g", "@{x}", "@end",
+                        "@chunk b", "@end", "@chunk a", "u", "v", "@end")
+        self.gives([document, size(), read("@end"), size()], [[4, 5, 2, 6], [1, 2], [4, 5, 2, 6]])

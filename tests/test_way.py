@@ -1,14 +1,6 @@
 """way: the least way from one node to another."""
 
-from tests.support import CallsTest, read, run, texts, way
-
-
-def chunks(**used):
-    """Parts of these names, in their order, that use what is told."""
-    lines = []
-    for name, uses in used.items():
-        lines += ["@chunk " + name, "".join("@{" + use + "}" for use in uses), "@end"]
-    return lines
+from tests.support import CallsTest, chunks, read, run, texts, way
 
 
 class Ways(CallsTest):
